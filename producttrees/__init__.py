@@ -1,0 +1,1 @@
+"""Shallow product trees over finite multiplication tables."""
