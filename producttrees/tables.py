@@ -4,8 +4,8 @@ from producttrees.errors import InvalidElement, InvalidInteger, InvalidOrder, In
 from producttrees.errors import NotAssociative
 from producttrees.validation import is_integer, is_list, is_number_below, is_number_list
 
-_LARGEST_TABLE = 16
-_LONGEST_SEQUENCE = 2000
+LARGEST_TABLE = 16
+LONGEST_SEQUENCE = 2000
 
 
 class ProductTable:
@@ -31,13 +31,13 @@ class ProductTable:
 
     def product(self, first, second):
         """Return first*second."""
-        self._check_element(first)
-        self._check_element(second)
+        check_element(self, first)
+        check_element(self, second)
         return self._rows[first][second]
 
     def power(self, element, count):
         """Return the product of count copies of the element."""
-        self._check_element(element)
+        check_element(self, element)
         if not is_integer(count) or count < 1:
             raise InvalidInteger(count)
         # A count may have thirty digits, so the power is squared once for each binary digit after the first.
@@ -63,8 +63,7 @@ class ProductTable:
 
     def generated(self, generators):
         """Return all products of one or more of the generators, in ascending order."""
-        if not is_number_list(generators, 1, _LONGEST_SEQUENCE, len(self._rows)):
-            raise InvalidSequence(generators)
+        check_sequence(self, generators)
         distinct = sorted(set(generators))
         reached = list(distinct)
         waiting = list(distinct)
@@ -93,15 +92,28 @@ class ProductTable:
         """Return the table of these elements, which contain all their products, numbered by their places."""
         return ProductTable([[originals.index(self._rows[a][b]) for b in originals] for a in originals])
 
-    def _check_element(self, element):
-        """Raise an error unless the value is an element of this table."""
-        if not is_number_below(element, len(self._rows)):
-            raise InvalidElement(element)
+
+def check_table(table):
+    """Raise an error unless the value is a product table."""
+    if not isinstance(table, ProductTable):
+        raise InvalidTable(table)
+
+
+def check_element(table, element):
+    """Raise an error unless the value is an element of the table."""
+    if not is_number_below(element, len(table)):
+        raise InvalidElement(element)
+
+
+def check_sequence(table, sequence):
+    """Raise an error unless the value is a sequence of the table."""
+    if not is_number_list(sequence, 1, LONGEST_SEQUENCE, len(table)):
+        raise InvalidSequence(sequence)
 
 
 def _are_rows(rows):
     """Tell whether the value is a square list of rows of elements."""
-    if not is_list(rows, 1, _LARGEST_TABLE):
+    if not is_list(rows, 1, LARGEST_TABLE):
         return False
     size = len(rows)
     return all([is_number_list(row, size, size, size) for row in rows])

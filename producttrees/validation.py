@@ -33,6 +33,11 @@ def is_number_list(value, least, most, limit):
     return is_list(value, least, most) and all([is_number_below(item, limit) for item in value])
 
 
+def is_range(start, stop, length):
+    """Tell whether the values are the bounds of a non-empty range of a sequence of this length."""
+    return is_integer(start) and is_integer(stop) and 0 <= start < stop <= length
+
+
 def parse_integer(text, *, minimum=0, maximum=None):
     """Return the integer within the limits that the text represents, or None."""
     for limit in (minimum, maximum):

@@ -47,6 +47,11 @@ def bound_names(tree):
     return names
 
 
+def names_at_top(tree):
+    names = [node.name for node in tree.body if isinstance(node, (ast.FunctionDef, ast.ClassDef))]
+    return names + [target.id for node in tree.body if isinstance(node, ast.Assign) for target in node.targets]
+
+
 class FormTest(unittest.TestCase):
     def test_only_python_files(self):
         self.assertIn(PACKAGE / "__init__.py", files())
@@ -74,8 +79,7 @@ class FormTest(unittest.TestCase):
         self.assertEqual(len(ast.parse((PACKAGE / "__init__.py").read_text()).body), 1)
 
     def test_imports(self):
-        defined = {"producttrees." + name[:-3]: [node.name for node in tree.body if hasattr(node, "name")]
-                   for name, tree in parsed()}
+        defined = {"producttrees." + name[:-3]: names_at_top(tree) for name, tree in parsed()}
         for name, tree in parsed():
             self.assertEqual(nodes(tree, ast.Import), [], name)
             for node in nodes(tree, ast.ImportFrom):
@@ -98,6 +102,8 @@ class FormTest(unittest.TestCase):
             self.assertEqual([word for word in used if word not in bound + imported + BUILTINS], [], name)
             self.assertEqual(len(imported), len(set(imported)), name)
             self.assertEqual([word for word in imported if word not in used], [], name)
+            self.assertEqual([word for word in bound if word in imported], [], name)
+            self.assertEqual(len(names_at_top(tree)), len(set(names_at_top(tree))), name)
 
     def test_expressions(self):
         barred = (ast.Div, ast.AsyncFunctionDef, ast.AsyncFor, ast.AsyncWith, ast.Await)

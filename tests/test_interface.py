@@ -14,6 +14,21 @@ FUNCTIONS = {
         "is_integer": "(value)", "is_name": "(value)", "parse_integer": "(text, *, minimum=0, maximum=None)",
         "split_words": "(text)",
     },
+    "levels": {
+        "right_class": "(table, element)", "left_class": "(table, element)", "cell_of": "(table, element)",
+        "levels": "(table)", "level_of": "(table, element)", "find_factors": "(table, start, goal)",
+        "is_above": "(table, first, second)", "group_cells": "(table)", "inverse": "(table, element)",
+        "height_bound": "(table)", "color_bound": "(table)",
+    },
+    "trees": {
+        "evaluate": "(table, sequence, start=0, stop=None)", "is_tree": "(value)", "tree_leaves": "(tree)",
+        "tree_height": "(tree)", "tree_spans": "(tree)", "tree_products": "(table, tree)",
+        "first_tree_error": "(table, sequence, tree)", "join_trees": "(trees)",
+    },
+    "building": {
+        "cut_at_level": "(table, sequence, level)", "gap_labels": "(table, sequence, level)",
+        "build_tree": "(table, sequence)",
+    },
 }
 CLASSES = {
     "tables": {
@@ -22,6 +37,13 @@ CLASSES = {
             "product": "(self, first, second)", "power": "(self, element, count)", "idempotents": "(self)",
             "identity": "(self)", "generated": "(self, generators)", "subtable": "(self, generators)",
             "renumbered": "(self, order)",
+        },
+    },
+    "transformations": {
+        "Transformations": {
+            "__init__": "(self, states, letters)", "states": "(self)", "letters": "(self)", "contents": "(self)",
+            "table": "(self)", "__len__": "(self)", "__eq__": "(self, other)", "element_of": "(self, word)",
+            "word_of": "(self, element)", "run": "(self, state, word)",
         },
     },
 }

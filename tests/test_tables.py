@@ -8,7 +8,8 @@ from producttrees.errors import (InvalidElement, InvalidInteger, InvalidOrder, I
                                  NotAssociative)
 from producttrees.tables import ProductTable
 from tests.helpers import (LEFT_ZERO, LOW, NULL, PARITY, SWITCH, RaiseCheck, all_small_tables, cyclic_rows,
-                           left_zero_rows, lowest_rows, right_zero_rows, values_that_are_no_integer)
+                           left_zero_rows, lowest_rows, right_zero_rows, values_that_are_no_element,
+                           values_that_are_no_integer)
 
 parity = ProductTable(PARITY)
 low = ProductTable(LOW)
@@ -21,10 +22,6 @@ def product_of(table, factors):
     for factor in factors[1:]:
         result = table.rows()[result][factor]
     return result
-
-
-def values_that_are_no_element(size):
-    return values_that_are_no_integer() + [-1, size, size + 1, -size, 16, 10 ** 29]
 
 
 class CreationTest(unittest.TestCase, RaiseCheck):
