@@ -119,6 +119,119 @@ def various_tables():
     return all_small_tables() + [ProductTable(item) for item in rows] + drawn_tables(60, 7)
 
 
+def folded(table, factors):
+    rows, result = table.rows(), factors[0]
+    for factor in factors[1:]:
+        result = rows[result][factor]
+    return result
+
+
+def drawn_sequence(table, length, draw):
+    return [draw.randrange(len(table)) for _ in range(length)]
+
+
+def sequences(table, length, draw):
+    """Return sequences of a length: drawn, constant, periodic, of blocks of growing length, and of few elements."""
+    size = len(table)
+    last = size - 1
+    period = drawn_sequence(table, 7, draw)
+    blocks = []
+    while len(blocks) < length:
+        blocks += [len(blocks) % size] + [draw.randrange(size)] * (1 + len(blocks) // 5)
+    # Each step puts a new element between two copies of what there was before.
+    nested = [0]
+    while len(nested) < length:
+        nested = nested + [draw.randrange(size)] + nested
+    few = draw.sample(range(size), min(2, size))
+    return [drawn_sequence(table, length, draw), [0] * length, [last] * length, [draw.randrange(size)] * length,
+            (period * length)[:length], (list(range(size)) * length)[:length], blocks[:length], nested[:length],
+            [draw.choice(few) for _ in range(length)]]
+
+
+def left_deep(leaves):
+    """Return a tree of pairs that hang in the left one of each other."""
+    nodes = [leaves[0]]
+    for leaf in leaves[1:]:
+        root = len(nodes) - 1
+        nodes += [leaf, (root, root + 1)]
+    return nodes
+
+
+def right_deep(leaves):
+    """Return a tree of pairs that hang in the right one of each other."""
+    nodes = [leaves[-1]]
+    for leaf in leaves[-2::-1]:
+        root = len(nodes) - 1
+        nodes += [leaf, (root + 1, root)]
+    return nodes
+
+
+def alternating(leaves):
+    """Return a tree of pairs that hang in each other by turns: in the left one, in the right one, and so on."""
+    low, high = len(leaves) // 2, len(leaves) // 2 + 1
+    nodes = [leaves[low]]
+    while low > 0 or high < len(leaves):
+        root = len(nodes) - 1
+        if low > 0 and (high - low) % 2 == 1 or high == len(leaves):
+            low -= 1
+            nodes += [leaves[low], (root + 1, root)]
+        else:
+            nodes += [leaves[high], (root, root + 1)]
+            high += 1
+    return nodes
+
+
+def wide(leaves):
+    """Return a tree with all leaves below the root."""
+    return list(leaves) + [tuple(range(len(leaves)))]
+
+
+def reversed_wide(leaves):
+    """Return a tree in whose list the leaves stand from the last one to the first one."""
+    return list(leaves[::-1]) + [tuple(range(len(leaves)))[::-1]]
+
+
+def single_chain(nodes):
+    """Return a tree of so many nodes with one leaf, in which each inner node has one child."""
+    return [1] + [(index,) for index in range(nodes - 1)]
+
+
+def drawn_tree(draw, size, most_leaf):
+    """Return a drawn tree with a drawn order of its nodes, also with nodes of one child or none."""
+    nodes = []
+    roots = []
+    for _ in range(size):
+        if draw.random() < 0.55 or not roots:
+            nodes.append(draw.randint(0, most_leaf) if draw.random() < 0.85 else ())
+        else:
+            count = min(len(roots), draw.randint(1, 4))
+            draw.shuffle(roots)
+            nodes.append(tuple(roots[:count]))
+            del roots[:count]
+        roots.append(len(nodes) - 1)
+    draw.shuffle(roots)
+    return nodes + [tuple(roots)]
+
+
+def reordered(tree, draw):
+    """Return the same tree with its nodes in a drawn order in which children come first."""
+    parents = {child: index for index, node in enumerate(tree) if isinstance(node, tuple) for child in node}
+    missing = [len(node) if isinstance(node, tuple) else 0 for node in tree]
+    ready = [index for index, count in enumerate(missing) if count == 0]
+    places = {}
+    nodes = []
+    while ready:
+        index = ready.pop(draw.randrange(len(ready)))
+        places[index] = len(nodes)
+        node = tree[index]
+        nodes.append(tuple(places[child] for child in node) if isinstance(node, tuple) else node)
+        if index in parents:
+            missing[parents[index]] -= 1
+            if missing[parents[index]] == 0:
+                ready.append(parents[index])
+    return nodes
+
+
 def values_that_are_no_table():
     return [None, True, 0, 1, "", "table", [], [[0]], ((0,),), {}, {"rows": [[0]]}, LOW, tuple(LOW),
             [ProductTable([[0]])], Transformations(1, {"a": [0]})]
@@ -134,6 +247,24 @@ def values_that_are_no_sequence(size):
     lists += [[0, wrong, 0] for wrong in (size, -1, True, None, "0", [0], (0,))]
     lists += [[0] * 2001, (0,) * 2001, [0] * 2010, [], ()]
     return lists + [None, True, 0, 1, "", "0", "01", {}, {0: 0}, [[0]], ([0],), ProductTable([[0]])]
+
+
+def values_that_are_no_tree():
+    """Return values with one fault each."""
+    wrong_leaves = [[wrong] for wrong in (-1, 16, 17, 10 ** 29, None, True, False, "0", "", [], [0], {}, {0: 0},
+                                           ProductTable(LOW))]
+    wrong_lists = [None, True, False, 0, 1, "", "0", {}, {0: 0}, {0: (0,)}, ProductTable(LOW), [], ()]
+    wrong_children = [
+        [0, 1], [0, 1, (1,)], [0, 1, (0,)], [0, (0,), 1], [0, (0,), (0,)], [0, (0,), (0, 1)], [0, (0, 0)],
+        [0, 1, (0, 1, 1)], [0, (0,), (1, 1)], [(0,)], [(0,), 1], [0, (1,)], [0, (0, 1)], [0, 1, (0, 1, 2)],
+        [0, (2,), (0, 1)], [(1,), (0,)], [(1, 2), 0, 0], [0, (-1,)], [0, 1, (0, -2)], [0, 1, (0, -1)], [0, (True,)],
+        [0, (False,)], [0, (None,)], [0, ("0",)], [0, ((0,),)], [0, ([0],)], [0, [0]], [0, 1, [0, 1]], [0, 1, (0, [1])],
+        [0, {0: 0}], [0, "0"], [0, 1, "01"], [0, None], [0, 1, (0, 1), ()], [(), ()], [(), 0], [0, ()], [0, (), (0,)],
+        [0, (10 ** 29,)], [ProductTable(LOW), (0,)], [[0], (0,)], [0, 1, (0, 1), 2], [0, 1, (0, 1), 2, (2, 3), 3],
+        [0, 1, 2, (0, 1), (1, 2)], [0, 1, 2, (0, 1), (1, 2, 3)], [0, 1, 2, (0, 1), (3, 2, 0)], [-1, (0,)], [16, (0,)],
+        [True, (0,)], [0, True, (0, 1)],
+    ]
+    return wrong_leaves + wrong_lists + wrong_children
 
 
 def values_that_are_no_integer():

@@ -8,20 +8,16 @@ from producttrees.errors import InvalidLevel, InvalidSequence, InvalidTable
 from producttrees.levels import group_cells, height_bound, left_class, level_of, levels, right_class
 from producttrees.tables import ProductTable
 from producttrees.trees import evaluate, first_tree_error, is_tree, tree_height, tree_leaves
-from tests.helpers import (LEFT_ZERO, LOW, NULL, PARITY, SWITCH, RaiseCheck, cyclic_rows, drawn_tables, left_zero_rows,
-                           lowest_rows, matrix_rows, nilpotent_rows, pair_rows, right_zero_rows, symmetric_rows,
-                           values_that_are_no_element, values_that_are_no_integer, values_that_are_no_sequence,
-                           values_that_are_no_table, various_tables)
+from tests.helpers import (LEFT_ZERO, LOW, NULL, PARITY, SWITCH, RaiseCheck, cyclic_rows, drawn_sequence, drawn_tables,
+                           left_zero_rows, lowest_rows, matrix_rows, nilpotent_rows, pair_rows, right_zero_rows,
+                           sequences, symmetric_rows, values_that_are_no_element, values_that_are_no_integer,
+                           values_that_are_no_sequence, values_that_are_no_table, various_tables)
 
 parity = ProductTable(PARITY)
 low = ProductTable(LOW)
 switch = ProductTable(SWITCH)
 pairs = ProductTable(matrix_rows(2, 2, [[1, 0], [0, 1]]))
 TABLES = various_tables()
-
-
-def drawn_sequence(table, length, draw):
-    return [draw.randrange(len(table)) for _ in range(length)]
 
 
 def expected_cut(table, sequence, level):
@@ -52,24 +48,6 @@ def expected_labels(table, sequence, level):
         cells.append(cell)
         labels.append((identities[0], value))
     return labels
-
-
-def sequences(table, length, draw):
-    """Return sequences of a length: drawn, constant, periodic, of blocks of growing length, and of few elements."""
-    size = len(table)
-    last = size - 1
-    period = drawn_sequence(table, 7, draw)
-    blocks = []
-    while len(blocks) < length:
-        blocks += [len(blocks) % size] + [draw.randrange(size)] * (1 + len(blocks) // 5)
-    # Each step puts a new element between two copies of what there was before.
-    nested = [0]
-    while len(nested) < length:
-        nested = nested + [draw.randrange(size)] + nested
-    few = draw.sample(range(size), min(2, size))
-    return [drawn_sequence(table, length, draw), [0] * length, [last] * length, [draw.randrange(size)] * length,
-            (period * length)[:length], (list(range(size)) * length)[:length], blocks[:length], nested[:length],
-            [draw.choice(few) for _ in range(length)]]
 
 
 class CutTest(unittest.TestCase, RaiseCheck):

@@ -29,6 +29,13 @@ FUNCTIONS = {
         "cut_at_level": "(table, sequence, level)", "gap_labels": "(table, sequence, level)",
         "build_tree": "(table, sequence)",
     },
+    "heights": {
+        "height_table": "(table, sequence)", "minimal_height": "(table, sequence)",
+        "first_height_error": "(table, sequence, heights)", "minimal_tree": "(table, sequence)",
+    },
+    "coloring": {
+        "gap_colors": "(table, sequence)", "first_color_error": "(table, sequence, colors)",
+    },
 }
 CLASSES = {
     "tables": {
@@ -44,6 +51,28 @@ CLASSES = {
             "__init__": "(self, states, letters)", "states": "(self)", "letters": "(self)", "contents": "(self)",
             "table": "(self)", "__len__": "(self)", "__eq__": "(self, other)", "element_of": "(self, word)",
             "word_of": "(self, element)", "run": "(self, state, word)",
+        },
+    },
+    "indexes": {
+        "ProductIndex": {
+            "__init__": "(self, table, sequence, *, tree=None)", "table": "(self)", "sequence": "(self)",
+            "tree": "(self)", "height": "(self)", "__len__": "(self)", "product": "(self, start, stop)",
+            "parts": "(self, start, stop)", "longest_range": "(self, start, allowed)",
+        },
+    },
+    "coloring": {
+        "GapColorer": {
+            "__init__": "(self, table)", "push": "(self, element)", "colors": "(self)", "__len__": "(self)",
+            "state": "(self)", "copied": "(self)",
+        },
+    },
+    "buffers": {
+        "SequenceBuffer": {
+            "__init__": "(self, table)", "table": "(self)", "sequence": "(self)", "marks": "(self)",
+            "__len__": "(self)", "append": "(self, sequence)", "truncate": "(self, length)",
+            "set_mark": "(self, name, place=None)", "remove_mark": "(self, name)", "undo": "(self)",
+            "product": "(self, start=0, stop=None)", "colors": "(self)", "tree": "(self)", "copied": "(self)",
+            "__eq__": "(self, other)",
         },
     },
 }

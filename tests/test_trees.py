@@ -9,9 +9,11 @@ from producttrees.errors import InvalidRange, InvalidSequence, InvalidTable, Inv
 from producttrees.tables import ProductTable
 from producttrees.trees import (evaluate, first_tree_error, is_tree, join_trees, tree_height, tree_leaves,
                                 tree_products, tree_spans)
-from tests.helpers import (LEFT_ZERO, LOW, PARITY, SWITCH, RaiseCheck, cyclic_rows, left_zero_rows, lowest_rows,
-                           nilpotent_rows, symmetric_rows, values_that_are_no_integer, values_that_are_no_sequence,
-                           values_that_are_no_table, various_tables)
+from tests.helpers import (LEFT_ZERO, LOW, PARITY, SWITCH, RaiseCheck, alternating, cyclic_rows, drawn_sequence,
+                           drawn_tree, folded, left_deep, left_zero_rows, lowest_rows, nilpotent_rows, reordered,
+                           reversed_wide, right_deep, single_chain, symmetric_rows, values_that_are_no_integer,
+                           values_that_are_no_sequence, values_that_are_no_table, values_that_are_no_tree,
+                           various_tables, wide)
 
 parity = ProductTable(PARITY)
 low = ProductTable(LOW)
@@ -20,56 +22,6 @@ left_zero = ProductTable(LEFT_ZERO)
 circle = ProductTable(cyclic_rows(16))
 
 TREE = [1, 0, (0, 1), 1, (2, 3)]
-
-
-def left_deep(leaves):
-    """Return a tree of pairs that hang in the left one of each other."""
-    nodes = [leaves[0]]
-    for leaf in leaves[1:]:
-        root = len(nodes) - 1
-        nodes += [leaf, (root, root + 1)]
-    return nodes
-
-
-def right_deep(leaves):
-    """Return a tree of pairs that hang in the right one of each other."""
-    nodes = [leaves[-1]]
-    for leaf in leaves[-2::-1]:
-        root = len(nodes) - 1
-        nodes += [leaf, (root + 1, root)]
-    return nodes
-
-
-def wide(leaves):
-    """Return a tree with all leaves below the root."""
-    return list(leaves) + [tuple(range(len(leaves)))]
-
-
-def single_chain(nodes):
-    """Return a tree of so many nodes with one leaf, in which each inner node has one child."""
-    return [1] + [(index,) for index in range(nodes - 1)]
-
-
-def reversed_wide(leaves):
-    """Return a tree in whose list the leaves stand from the last one to the first one."""
-    return list(leaves[::-1]) + [tuple(range(len(leaves)))[::-1]]
-
-
-def drawn_tree(draw, size, most_leaf):
-    """Return a drawn tree with a drawn order of its nodes, and what is to be found: leaves, height and spans."""
-    nodes = []
-    roots = []
-    for _ in range(size):
-        if draw.random() < 0.55 or not roots:
-            nodes.append(draw.randint(0, most_leaf) if draw.random() < 0.85 else ())
-        else:
-            count = min(len(roots), draw.randint(1, 4))
-            draw.shuffle(roots)
-            nodes.append(tuple(roots[:count]))
-            del roots[:count]
-        roots.append(len(nodes) - 1)
-    draw.shuffle(roots)
-    return nodes + [tuple(roots)]
 
 
 def described(tree, index):
@@ -90,30 +42,6 @@ def spans_of(tree, index, start, found):
             stop = spans_of(tree, child, stop, found)
     found[index] = (start, stop)
     return stop
-
-
-def folded(table, factors):
-    result = factors[0]
-    for factor in factors[1:]:
-        result = table.rows()[result][factor]
-    return result
-
-
-def values_that_are_no_tree():
-    """Return values with one fault each."""
-    wrong_leaves = [[wrong] for wrong in (-1, 16, 17, 10 ** 29, None, True, False, "0", "", [], [0], {}, {0: 0}, low)]
-    wrong_lists = [None, True, False, 0, 1, "", "0", {}, {0: 0}, {0: (0,)}, low, [], ()]
-    wrong_children = [
-        [0, 1], [0, 1, (1,)], [0, 1, (0,)], [0, (0,), 1], [0, (0,), (0,)], [0, (0,), (0, 1)], [0, (0, 0)],
-        [0, 1, (0, 1, 1)], [0, (0,), (1, 1)], [(0,)], [(0,), 1], [0, (1,)], [0, (0, 1)], [0, 1, (0, 1, 2)],
-        [0, (2,), (0, 1)], [(1,), (0,)], [(1, 2), 0, 0], [0, (-1,)], [0, 1, (0, -2)], [0, 1, (0, -1)], [0, (True,)],
-        [0, (False,)], [0, (None,)], [0, ("0",)], [0, ((0,),)], [0, ([0],)], [0, [0]], [0, 1, [0, 1]], [0, 1, (0, [1])],
-        [0, {0: 0}], [0, "0"], [0, 1, "01"], [0, None], [0, 1, (0, 1), ()], [(), ()], [(), 0], [0, ()], [0, (), (0,)],
-        [0, (10 ** 29,)], [low, (0,)], [[0], (0,)], [0, 1, (0, 1), 2], [0, 1, (0, 1), 2, (2, 3), 3],
-        [0, 1, 2, (0, 1), (1, 2)], [0, 1, 2, (0, 1), (1, 2, 3)], [0, 1, 2, (0, 1), (3, 2, 0)], [-1, (0,)], [16, (0,)],
-        [True, (0,)], [0, True, (0, 1)],
-    ]
-    return wrong_leaves + wrong_lists + wrong_children
 
 
 class EvaluateTest(unittest.TestCase, RaiseCheck):
@@ -572,3 +500,107 @@ class JoinTest(unittest.TestCase, RaiseCheck):
         result[0] = 9
         self.assertEqual(trees, kept)
         self.assertEqual(join_trees(trees), [1, (0,), 2, 3, (3, 2), (1, 4)])
+
+
+class GreatTreesTest(unittest.TestCase):
+    """Promises [52] to [55] for trees of up to 4,100 nodes of every shape."""
+
+    def check(self, tree, leaves, height, spans):
+        """Check what is promised of a tree without sequences; the spans are a dict from some indexes to their spans."""
+        for form in (tree, tuple(tree)):
+            self.assertIs(is_tree(form), True)
+            self.assertEqual([tree_leaves(form), tree_height(form)], [leaves, height])
+            found = tree_spans(form)
+            self.assertEqual([len(found), found[-1]], [len(tree), (0, len(leaves))])
+            self.assertEqual({index: found[index] for index in spans}, spans)
+            for index, node in enumerate(tree):
+                if isinstance(node, tuple) and node:
+                    self.assertEqual([found[child][0] for child in node[1:]], [found[child][1] for child in node[:-1]])
+                    self.assertEqual(found[index], (found[node[0]][0], found[node[-1]][1]))
+                elif isinstance(node, int):
+                    self.assertEqual(leaves[found[index][0]:found[index][1]], [node])
+
+    def check_products(self, table, tree):
+        """Check the products of all nodes, each by those of its children."""
+        products = tree_products(table, tree)
+        for index, node in enumerate(tree):
+            if isinstance(node, int):
+                self.assertEqual(products[index], node)
+            else:
+                made = [products[child] for child in node if products[child] is not None]
+                self.assertEqual(products[index], folded(table, made) if made else None)
+
+    def test_pairs_one_inside_the_other(self):
+        draw = random.Random(26)
+        for count in (1999, 2000, 2050):
+            leaves = [draw.randrange(3) for _ in range(count)]
+            middle = count // 2
+            for make, spans in ((left_deep, {2 * k: (0, k + 1) for k in range(1, count)}),
+                                (right_deep, {2 * k: (count - k - 1, count) for k in range(1, count)}),
+                                (alternating, {2: (middle - 1, middle + 1), 4: (middle - 1, middle + 2)})):
+                tree = make(leaves)
+                self.assertEqual(len(tree), 2 * count - 1)
+                self.check(tree, leaves, count - 1, spans)
+                self.check_products(switch, tree)
+                mixed = reordered(tree, draw)
+                self.check(mixed, leaves, count - 1, {})
+                self.check_products(switch, mixed)
+                if count <= 2000:
+                    self.check_errors(switch, leaves, tree)
+                    self.check_errors(switch, leaves, mixed)
+
+    def check_errors(self, table, leaves, tree):
+        """Check a valid tree, and what is wrong with it for sequences that differ at one place or in length."""
+        self.assertIsNone(first_tree_error(table, leaves, tree))
+        for place in (0, 1, len(leaves) // 2, len(leaves) - 1):
+            changed = leaves[:place] + [(leaves[place] + 1) % len(table)] + leaves[place + 1:]
+            self.assertEqual(first_tree_error(table, changed, tree), ("leaf", place))
+        self.assertEqual(first_tree_error(table, leaves[1:], tree), ("length", len(leaves)))
+
+    def test_a_root_over_all_leaves(self):
+        draw = random.Random(27)
+        for make in (wide, reversed_wide):
+            leaves = [draw.randrange(16) for _ in range(4099)]
+            self.check(make(leaves), leaves, 1, {})
+            self.check_products(circle, make(leaves))
+            self.check_errors(low, [1] * 2000, make([1] * 2000))
+            self.check_errors(left_zero, [1] * 1999, reordered(make([1] * 1999), draw))
+            for place in (0, 1, 1000, 1999):
+                wrong = [1] * place + [0] + [1] * (1999 - place)
+                self.assertEqual(first_tree_error(low, wrong, make(wrong)), ("products", 2000))
+            self.assertEqual(first_tree_error(switch, [2] * 2000, make([2] * 2000)), ("idempotent", 2000))
+
+    def test_a_root_over_deep_trees(self):
+        draw = random.Random(28)
+        for count in (2, 3, 5):
+            size = 2000 // count
+            # With a 0 in each of them, all parts have this product.
+            parts = [[0] + drawn_sequence(switch, size - 1, draw) for _ in range(count)]
+            leaves = [leaf for part in parts for leaf in part]
+            makes = [left_deep, right_deep, alternating, right_deep, left_deep]
+            tree = join_trees([make(part) for make, part in zip(makes, parts)])
+            for form in (tree, reordered(tree, draw)):
+                self.check(form, leaves, size, {})
+                self.check_products(switch, form)
+                self.check_errors(switch, leaves, form)
+
+    def test_an_error_deep_in_a_great_tree(self):
+        draw = random.Random(29)
+        for make in (left_deep, right_deep, alternating):
+            leaves = drawn_sequence(switch, 1900, draw)
+            tree = make(leaves)
+            # A node with one child between the first pair and the pair around it.
+            tree = tree[:3] + [(2,)] + [tuple(3 if child == 2 else child + 1 if child > 2 else child for child in node)
+                                        if isinstance(node, tuple) else node for node in tree[3:]]
+            self.assertEqual(first_tree_error(switch, leaves, tree), ("children", 3))
+        tree = join_trees([left_deep([1] * 900), wide([2, 2, 2]), right_deep([1] * 900)])
+        index = len(left_deep([1] * 900)) + 3
+        self.assertEqual(first_tree_error(switch, [1] * 900 + [2] * 3 + [1] * 900, tree), ("idempotent", index))
+        tree = join_trees([left_deep([1] * 900), [1, 0, 1, (0, 1, 2)], right_deep([1] * 900)])
+        self.assertEqual(first_tree_error(switch, [1] * 901 + [0] + [1] * 901, tree), ("products", index))
+
+    def test_nodes_too_many(self):
+        self.assertIs(is_tree(left_deep([1] * 2051)), False)
+        self.assertIs(is_tree(right_deep([1] * 2051)), False)
+        self.assertIs(is_tree(alternating([1] * 2051)), False)
+        self.assertIs(is_tree(left_deep([1] * 2050)), True)
