@@ -4,7 +4,7 @@ from producttrees.errors import InvalidColors, TooMany
 from producttrees.levels import level_numbers, levels, right_classes
 from producttrees.tables import LONGEST_SEQUENCE, check_element, check_sequence, check_table
 from producttrees.trees import multiplied
-from producttrees.validation import is_integer, is_list
+from producttrees.validation import is_color_list
 
 _LONGEST_CHECKED = 200
 
@@ -31,7 +31,7 @@ class GapColorer:
         self._table = table
         self._rows = table.rows()
         self._levels = level_numbers(table)
-        self._shades = _shades(table)
+        self._shades = _color_of_each(table)
         self._colors = []
         # Item k is the product of the elements since the last gap cut at a level after k; None if there are none.
         self._held = [None] * len(levels(table))
@@ -73,7 +73,7 @@ def first_color_error(table, sequence, colors):
     """Return None if the colors are correct, and otherwise the first (x, y, u, v) that shows the contrary."""
     check_table(table)
     check_sequence(table, sequence)
-    if not is_list(colors, len(sequence), len(sequence)) or not _are_colors(colors):
+    if not is_color_list(colors, len(sequence), len(sequence)):
         raise InvalidColors(colors)
     if len(sequence) > _LONGEST_CHECKED:
         raise TooMany(len(sequence))
@@ -86,12 +86,7 @@ def first_color_error(table, sequence, colors):
     return min(errors, default=None)
 
 
-def _are_colors(colors):
-    """Tell whether all items are integers of at least 1."""
-    return all([is_integer(color) and color >= 1 for color in colors])
-
-
-def _shades(table):
+def _color_of_each(table):
     """Return, for each element, the color of a gap where it is the product of the stretch before it."""
     classes = right_classes(table)
     idempotents = table.idempotents()

@@ -4,8 +4,8 @@ from producttrees.errors import InvalidElement, InvalidLetters, InvalidState, In
 from producttrees.tables import LARGEST_TABLE, ProductTable
 from producttrees.validation import is_integer, is_list, is_name, is_number_below, is_number_list
 
-_MOST_STATES = 5
-_MOST_LETTERS = 4
+MOST_STATES = 5
+MOST_LETTERS = 4
 _LONGEST_WORD = 60
 
 
@@ -13,7 +13,7 @@ class Transformations:
     """The maps of all words over some letters, each of which maps every state; the object never changes."""
 
     def __init__(self, states, letters):
-        if not is_integer(states) or not 1 <= states <= _MOST_STATES:
+        if not is_integer(states) or not 1 <= states <= MOST_STATES:
             raise InvalidState(states)
         if not _are_letters(states, letters):
             raise InvalidLetters(letters)
@@ -78,7 +78,7 @@ class Transformations:
 
 def _are_letters(states, letters):
     """Tell whether the value is a dict from one to four names to lists of targets."""
-    if not isinstance(letters, dict) or not 1 <= len(letters) <= _MOST_LETTERS:
+    if not isinstance(letters, dict) or not 1 <= len(letters) <= MOST_LETTERS:
         return False
     return all([is_name(name) and is_number_list(letters[name], states, states, states) for name in letters])
 

@@ -4,7 +4,7 @@ from producttrees.errors import InvalidRange, InvalidTree, TooMany
 from producttrees.tables import LARGEST_TABLE, check_sequence, check_table
 from producttrees.validation import is_list, is_number_below, is_range
 
-_MOST_NODES = 4100
+MOST_NODES = 4100
 _MOST_TREES = 100
 
 # Every function goes through the list of the nodes or keeps a list of the nodes to visit, since a tree may be
@@ -31,7 +31,7 @@ def multiplied(rows, factors):
 
 def is_tree(value):
     """Tell whether the value is a product tree."""
-    if not is_list(value, 1, _MOST_NODES):
+    if not is_list(value, 1, MOST_NODES):
         return False
     is_child = [False] * len(value)
     for index, node in enumerate(value):
@@ -152,7 +152,7 @@ def join_trees(trees):
     for tree in trees:
         check_tree(tree)
     count = sum([len(tree) for tree in trees]) + 1
-    if count > _MOST_NODES:
+    if count > MOST_NODES:
         raise TooMany(count)
     nodes = []
     roots = []

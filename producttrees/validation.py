@@ -2,7 +2,7 @@
 
 from producttrees.errors import InvalidInteger, InvalidText
 
-_MOST_DIGITS = 30
+MOST_DIGITS = 30
 _MOST_LETTERS = 8
 
 
@@ -33,6 +33,11 @@ def is_number_list(value, least, most, limit):
     return is_list(value, least, most) and all([is_number_below(item, limit) for item in value])
 
 
+def is_color_list(value, least, most):
+    """Tell whether the value is a list as in is_list, with integers of at least 1 as items."""
+    return is_list(value, least, most) and all([is_integer(item) and item >= 1 for item in value])
+
+
 def is_range(start, stop, length):
     """Tell whether the values are the bounds of a non-empty range of a sequence of this length."""
     return is_integer(start) and is_integer(stop) and 0 <= start < stop <= length
@@ -61,7 +66,7 @@ def _is_decimal(text):
     # isdigit alone would also accept digits of other scripts.
     if not digits.isascii() or not digits.isdigit():
         return False
-    return digits[0] != "0" and len(digits) <= _MOST_DIGITS
+    return digits[0] != "0" and len(digits) <= MOST_DIGITS
 
 
 def split_words(text):

@@ -1,5 +1,6 @@
 """What the document promises over several parts of the program at once: [3], [7], [8], [9]."""
 
+import itertools
 import random
 import unittest
 
@@ -10,10 +11,15 @@ from producttrees.heights import first_height_error, height_table, minimal_tree
 from producttrees.indexes import ProductIndex
 from producttrees.levels import (cell_of, color_bound, find_factors, group_cells, height_bound, inverse, is_above,
                                  left_class, level_of, levels, right_class)
+from producttrees.maps import first_homomorphism_error, map_sequence, map_tree, pair_table
+from producttrees.runs import find_run, first_certificate_error, is_run, longest_run_free, run_free_bound, run_state
+from producttrees.session import Session
 from producttrees.tables import ProductTable
+from producttrees.texts import (format_colors, format_sequence, format_table, format_transformations, format_tree,
+                                parse_colors, parse_sequence, parse_table, parse_transformations, parse_tree)
 from producttrees.transformations import Transformations
-from producttrees.trees import evaluate, first_tree_error, tree_height, tree_products
-from tests.helpers import drawn_letters, drawn_sequence, sequences, various_tables
+from producttrees.trees import evaluate, first_tree_error, join_trees, tree_height, tree_products
+from tests.helpers import LOW, NULL, PARITY, drawn_letters, drawn_sequence, sequences, various_tables
 
 TABLES = various_tables()
 
@@ -163,6 +169,149 @@ class TurnsTest(unittest.TestCase):
         buffer.append(sequence)
         colorer = GapColorer(table)
         colors = [colorer.push(element) for element in sequence]
-        return [height_table(table, sequence), minimal_tree(table, sequence), build_tree(table, sequence),
-                gap_colors(table, sequence), colors, colorer.state(), index.parts(2, 11), index.tree(), buffer.tree(),
-                buffer.colors(), buffer.product(3), levels(table), group_cells(table), height_bound(table)]
+        size = len(table)
+        answers = [height_table(table, sequence), minimal_tree(table, sequence), build_tree(table, sequence),
+                   gap_colors(table, sequence), colors, colorer.state(), index.parts(2, 11), index.tree(),
+                   buffer.tree(), buffer.colors(), buffer.product(3), levels(table), group_cells(table),
+                   height_bound(table), color_bound(table), table.rows(), table.idempotents(), table.generated([0])]
+        answers += [first_homomorphism_error(table, table, [0] * size), find_run(table, sequence, 2),
+                    run_state(table, sequence), run_free_bound(table, 3), longest_run_free(table, [size - 1], 2),
+                    format_table(table), format_sequence(sequence), format_tree(index.tree()), format_colors(colors)]
+        session = Session()
+        lines = ["table t " + " ".join(",".join(map(str, row)) for row in table.rows()), "buffer b t",
+                 "append b " + " ".join(map(str, sequence)), "product b", "run b 2", "colors b", "height t"]
+        return answers + session.execute_all(lines)
+
+
+class PairsTest(unittest.TestCase):
+    """A sequence of pairs, and the two sequences of their components."""
+
+    def cases(self, seed):
+        draw = random.Random(seed)
+        small = [table for table in TABLES if len(table) <= 8]
+        for first, second in zip(small, small[::-1]):
+            if len(first) * len(second) <= 16:
+                yield first, second, draw
+
+    def test_trees_colors_indexes_and_heights(self):
+        checked = 0
+        for first, second, draw in self.cases(114):
+            checked += 1
+            table, firsts, seconds = pair_table(first, second)
+            sequence = drawn_sequence(table, 20, draw)
+            parts = [(first, firsts), (second, seconds)]
+            index, tree = ProductIndex(table, sequence), minimal_tree(table, sequence)
+            colors = gap_colors(table, sequence)
+            heights = height_table(table, sequence)
+            for part, images in parts:
+                mapped = map_sequence(table, part, images, sequence)
+                self.assertEqual(mapped, [images[pair] for pair in sequence])
+                self.assertIsNone(first_color_error(part, mapped, colors))
+                self.assertIsNone(first_tree_error(part, mapped, map_tree(table, part, images, tree)))
+                other = ProductIndex(part, mapped, tree=map_tree(table, part, images, index.tree()))
+                lower = height_table(part, mapped)
+                for start in range(20):
+                    for stop in range(start + 1, 21):
+                        self.assertEqual(images[index.product(start, stop)], evaluate(part, mapped, start, stop))
+                        self.assertEqual(other.product(start, stop), images[index.product(start, stop)])
+                        self.assertEqual(other.parts(start, stop), index.parts(start, stop))
+                        self.assertLessEqual(lower[start][stop - start - 1], heights[start][stop - start - 1])
+        self.assertGreater(checked, 10)
+
+    def test_runs_of_pairs_are_runs_of_both_components(self):
+        found = 0
+        for first, second, draw in self.cases(115):
+            table, firsts, seconds = pair_table(first, second)
+            sequence = drawn_sequence(table, 40, draw)
+            run = find_run(table, sequence, 2)
+            if run is not None:
+                found += 1
+                for part, images in ((first, firsts), (second, seconds)):
+                    mapped = map_sequence(table, part, images, sequence)
+                    self.assertIs(is_run(part, mapped, (images[run[0]], run[1])), True)
+                    self.assertLessEqual(find_run(part, mapped, 2)[1][-1], run[1][-1])
+        self.assertGreater(found, 5)
+
+
+class WrittenTest(unittest.TestCase):
+    def test_what_is_written_is_parsed_and_used_again(self):
+        draw = random.Random(116)
+        for table in TABLES[::2]:
+            sequence = drawn_sequence(table, 90, draw)
+            tree, colors = build_tree(table, sequence), gap_colors(table, sequence)
+            other, same = parse_table(format_table(table)), parse_sequence(format_sequence(sequence))
+            self.assertEqual([other, same], [table, sequence])
+            index = ProductIndex(other, same, tree=parse_tree(format_tree(tree)))
+            self.assertEqual(index.product(7, 80), evaluate(table, sequence, 7, 80))
+            self.assertIsNone(first_color_error(other, same, parse_colors(format_colors(colors))))
+            self.assertEqual(parse_colors(format_colors(gap_colors(other, same))), colors)
+
+    def test_written_transformations(self):
+        maps = Transformations(3, {"b": [1, 2, 0], "a": [0, 0, 0]})
+        again = parse_transformations(format_transformations(maps))
+        self.assertEqual([again.table(), again.word_of(4), again.run(2, ["b", "b"])],
+                         [maps.table(), maps.word_of(4), maps.run(2, ["b", "b"])])
+
+
+class PowersTest(unittest.TestCase):
+    def test_powers_beside_products_of_sequences(self):
+        for table in TABLES[::3]:
+            for element in range(len(table)):
+                for count in (1, 2, 3, 7, 40, 2000):
+                    power = table.power(element, count)
+                    self.assertEqual(evaluate(table, [element] * count), power)
+                    if count <= 40:
+                        index = ProductIndex(table, [element] * count)
+                        self.assertEqual([index.product(0, count), tree_products(table, index.tree())[-1]], [power] * 2)
+
+    def test_runs_of_equal_elements(self):
+        # Of a constant sequence, the ranges with an idempotent product have a common least length.
+        for table in TABLES[::3]:
+            for element in range(len(table)):
+                least = min(count for count in range(1, 17)
+                            if table.power(table.power(element, count), 2) == table.power(element, count))
+                self.assertIsNone(find_run(table, [element] * (2 * least - 1), 2))
+                run = find_run(table, [element] * (2 * least), 2)
+                self.assertEqual(run, (table.power(element, least), [0, least, 2 * least]))
+
+
+class RunFreeTest(unittest.TestCase):
+    def test_all_short_sequences_beside_the_longest_ones(self):
+        for rows, count in ((PARITY, 2), (LOW, 2), (NULL, 2), (PARITY, 3)):
+            table = ProductTable(rows)
+            sequence, certificate = longest_run_free(table, [0, 1], count)
+            remaining = dict(certificate)
+            for length in range(1, len(sequence) + 2):
+                free = 0
+                for tried in itertools.product([0, 1], repeat=length):
+                    if find_run(table, tried, count) is None:
+                        free += 1
+                        self.assertGreaterEqual(len(sequence) - length, 0)
+                        self.assertLessEqual(remaining[run_state(table, tried)], len(sequence) - length)
+                self.assertEqual(free > 0, length <= len(sequence))
+
+    def test_renumbered_tables(self):
+        draw = random.Random(117)
+        for table in TABLES[::4]:
+            order = draw.sample(range(len(table)), len(table))
+            new = table.renumbered(order)
+            alphabet = [draw.randrange(len(table))]
+            renamed = [order.index(element) for element in alphabet]
+            first, second = longest_run_free(table, alphabet, 3), longest_run_free(new, renamed, 3)
+            self.assertEqual([len(part) for part in first], [len(part) for part in second])
+            self.assertIsNone(first_certificate_error(new, renamed, 3, second[1]))
+            self.assertEqual(run_free_bound(new, 3), run_free_bound(table, 3))
+            self.assertLessEqual(len(first[0]), run_free_bound(table, 3))
+
+    def test_runs_give_wide_nodes(self):
+        # The ranges of a run may be the children of one node of a valid tree.
+        draw = random.Random(118)
+        for table in TABLES[::5]:
+            sequence = drawn_sequence(table, 60, draw)
+            run = find_run(table, sequence, 4)
+            if run is not None:
+                element, places = run
+                trees = [build_tree(table, sequence[start:stop]) for start, stop in zip(places, places[1:])]
+                joined = join_trees(trees)
+                self.assertIsNone(first_tree_error(table, sequence[places[0]:places[-1]], joined))
+                self.assertEqual(tree_products(table, joined)[-1], element)
