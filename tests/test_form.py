@@ -17,6 +17,11 @@ BARRED_NAMES = """breakpoint builtins compile copyright credits delattr dir eval
     license locals methodcaller os quit vars float chr print hash round format filter callable slice complex object
     bytearray memoryview""".split()
 
+# Methods of strings, lists and dicts that may be called.
+METHODS = """append clear copy count endswith extend find get index insert isalnum isalpha isdigit islower isspace isupper
+    items join keys ljust lower lstrip partition pop remove replace reverse rfind rjust rpartition rsplit rstrip setdefault
+    split splitlines startswith strip update upper values zfill bit_length isascii removeprefix removesuffix""".split()
+
 # The modules of the library of which the rules allow some names.
 LIBRARY = ("heapq", "math", "itertools", "collections")
 
@@ -104,6 +109,24 @@ class FormTest(unittest.TestCase):
             self.assertEqual([word for word in imported if word not in used], [], name)
             self.assertEqual([word for word in bound if word in imported], [], name)
             self.assertEqual(len(names_at_top(tree)), len(set(names_at_top(tree))), name)
+
+    def test_methods(self):
+        own = [node.name for _, tree in parsed() for node in nodes(tree, ast.FunctionDef)]
+        stored = [node.attr for _, tree in parsed() for node in nodes(tree, ast.Attribute)
+                  if isinstance(node.ctx, ast.Store)]
+        for name, tree in parsed():
+            called = [node.func.attr for node in nodes(tree, ast.Call) if isinstance(node.func, ast.Attribute)]
+            self.assertEqual([word for word in called if word not in own + METHODS], [], name)
+            read = [node.attr for node in nodes(tree, ast.Attribute)]
+            self.assertEqual([word for word in read if word not in own + METHODS + stored], [], name)
+
+    def test_comparisons_and_generators(self):
+        for name, tree in parsed():
+            self.assertEqual([ast.unparse(node) for node in nodes(tree, ast.GeneratorExp)], [], name)
+            for node in nodes(tree, ast.Compare):
+                for sign, right in zip(node.ops, node.comparators):
+                    if isinstance(sign, (ast.Is, ast.IsNot)):
+                        self.assertIn(ast.unparse(right), ("None", "True", "False"), name)
 
     def test_expressions(self):
         barred = (ast.Div, ast.AsyncFunctionDef, ast.AsyncFor, ast.AsyncWith, ast.Await)
